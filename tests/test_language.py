@@ -1,0 +1,152 @@
+"""Checks those rules of ../shared/LANGUAGE.md that are easy to see in the source, and the interface of DOC.md."""
+
+import ast
+import builtins
+import importlib
+import inspect
+import pathlib
+import unittest
+
+FOLDER = pathlib.Path(__file__).resolve().parent.parent / "watchzones"
+
+INTERFACE = {
+    "schemes": ["is_scheme(value)"],
+    "databases": [
+        "is_database(scheme, value)", "is_change(scheme, value)", "made_plain(scheme, change, values)",
+        "carried_out(scheme, database, change)"],
+    "queries": ["is_query(scheme, value)", "ways(scheme, query, database)", "answer(scheme, query, database)"],
+}
+
+BUILTINS = (
+    "len range enumerate zip min max sum abs sorted reversed int str bool bytes list tuple dict set isinstance ord repr "
+    "any all divmod ValueError").split()
+METHODS = (
+    "append clear copy count endswith extend find get index insert items join keys pop remove replace reverse "
+    "setdefault split startswith strip update values").split()
+AT_ONCE = ("zip", "enumerate", "reversed", "map", "items", "keys", "values")
+BARRED = (
+    ast.Lambda, ast.Try, ast.With, ast.Global, ast.Nonlocal, ast.AsyncFunctionDef, ast.Await, ast.Div, ast.Yield,
+    ast.YieldFrom, ast.Import, ast.NamedExpr, ast.JoinedStr, ast.Match, ast.AnnAssign, ast.Set, ast.SetComp, ast.Delete)
+
+
+def files():
+    return sorted(FOLDER.glob("*.py"))
+
+
+def called(node):
+    if isinstance(node, ast.Call):
+        return node.func.id if isinstance(node.func, ast.Name) else node.func.attr
+    return ""
+
+
+def names_bound(tree):
+    for node in ast.walk(tree):
+        if isinstance(node, (ast.FunctionDef, ast.ClassDef)):
+            yield node.name
+        elif isinstance(node, ast.arg):
+            yield node.arg
+        elif isinstance(node, ast.Name) and isinstance(node.ctx, ast.Store):
+            yield node.id
+
+
+class TestLanguage(unittest.TestCase):
+    def each(self):
+        texts = [(path, path.read_text(encoding="utf-8")) for path in files()]
+        return [(path, text, ast.parse(text)) for path, text in texts]
+
+    def test_folder_contains_only_files_of_the_package(self):
+        names = [path.name for path in FOLDER.iterdir() if path.name != "__pycache__"]
+        self.assertEqual(sorted(names), [path.name for path in files()])
+        self.assertIn("__init__.py", names)
+
+    def test_sizes_and_signs(self):
+        for path, text, tree in self.each():
+            lines = text.split("\n")
+            self.assertLessEqual(len(lines), 399)
+            self.assertLessEqual(max(len(line) for line in lines), 120)
+            self.assertTrue(all(" " <= sign <= "~" or sign == "\n" for sign in text))
+            for node in ast.walk(tree):
+                if isinstance(node, ast.FunctionDef):
+                    self.assertLessEqual(node.end_lineno - node.lineno + 1, 40, node.name)
+                    self.assertEqual(node.decorator_list, [])
+
+    def test_module_level(self):
+        for path, text, tree in self.each():
+            self.assertIsNotNone(ast.get_docstring(tree))
+            for node in tree.body[1:]:
+                self.assertIsInstance(node, (ast.ImportFrom, ast.FunctionDef, ast.ClassDef, ast.Assign))
+                if isinstance(node, ast.Assign):
+                    ast.literal_eval(node.value)
+            bound = [node.name for node in tree.body if isinstance(node, (ast.FunctionDef, ast.ClassDef))]
+            bound += [name.name for node in tree.body if isinstance(node, ast.ImportFrom) for name in node.names]
+            self.assertEqual(len(bound), len(set(bound)))
+            inner = [name for node in tree.body if isinstance(node, ast.FunctionDef)
+                     for part in [node.args, *node.body] for name in names_bound(part)]
+            self.assertEqual(set(inner) & set(bound), set())
+
+    def test_imports_name_the_file_that_defines_and_make_no_circle(self):
+        imported = {}
+        for path, text, tree in self.each():
+            imported[path.stem] = []
+            for node in ast.walk(tree):
+                if isinstance(node, ast.ImportFrom):
+                    self.assertIn(node, tree.body)
+                    folder, stem = node.module.split(".")
+                    self.assertEqual(folder, "watchzones")
+                    imported[path.stem].append(stem)
+                    module = importlib.import_module(node.module)
+                    for name in node.names:
+                        self.assertIsNone(name.asname)
+                        value = getattr(module, name.name)
+                        self.assertEqual(getattr(value, "__module__", node.module), node.module)
+                        self.assertGreater(text.count(name.name), 1)
+        while imported:
+            free = [stem for stem in imported if not set(imported[stem]) & set(imported)]
+            self.assertNotEqual(free, [])
+            imported = {stem: imported[stem] for stem in imported if stem not in free}
+
+    def test_statements_and_expressions(self):
+        for path, text, tree in self.each():
+            for node in ast.walk(tree):
+                self.assertNotIsInstance(node, BARRED, (path.name, getattr(node, "lineno", None)))
+                if isinstance(node, ast.Compare):
+                    for operator, side in zip(node.ops, node.comparators):
+                        if isinstance(operator, (ast.Is, ast.IsNot)):
+                            self.assertIsInstance(side, ast.Constant)
+                if isinstance(node, ast.Constant):
+                    self.assertNotIsInstance(node.value, float)
+                    if isinstance(node.value, str):
+                        self.assertNotIn("%", node.value)
+                if isinstance(node, ast.Assign):
+                    self.assertNotIn(called(node.value), (*AT_ONCE, "range"))
+                if isinstance(node, ast.GeneratorExp):
+                    self.fail("a generator expression")
+
+    def test_names_and_calls(self):
+        own = {name for path, text, tree in self.each() for name in names_bound(tree)}
+        for path, text, tree in self.each():
+            for name in names_bound(tree):
+                self.assertFalse(hasattr(builtins, name) and name != "__init__", (path.name, name))
+            for node in ast.walk(tree):
+                if isinstance(node, ast.Name) and hasattr(builtins, node.id):
+                    self.assertIn(node.id, BUILTINS, (path.name, node.lineno))
+                if isinstance(node, ast.Call) and isinstance(node.func, ast.Attribute):
+                    self.assertIn(node.func.attr, {*METHODS, *own, "__init__"}, (path.name, node.lineno))
+
+    def test_sets_stand_only_where_their_order_means_nothing(self):
+        for path, text, tree in self.each():
+            for node in ast.walk(tree):
+                for child in ast.iter_child_nodes(node):
+                    if called(child) == "set":
+                        self.assertIn(called(node), ("sorted", "len"))
+
+
+class TestInterface(unittest.TestCase):
+    def test_names_and_arguments(self):
+        for stem, told in INTERFACE.items():
+            module = importlib.import_module(f"watchzones.{stem}")
+            for text in told:
+                name, _, rest = text.partition("(")
+                function = getattr(module, name)
+                self.assertEqual(function.__module__, module.__name__)
+                self.assertEqual(list(inspect.signature(function).parameters), rest[:-1].split(", "))

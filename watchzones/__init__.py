@@ -1,0 +1,1 @@
+"""Watchzones: which changes of tables can alter the answer to a query."""

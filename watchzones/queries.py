@@ -1,0 +1,113 @@
+"""Queries of a scheme, their ways and their answers."""
+
+from watchzones.basics import is_constraint, is_tuple_of, lies_between
+
+GREATEST_VARIABLE = 15
+
+
+def is_query(scheme, value):
+    """Tell for any value whether it is a query for a scheme."""
+    if not is_tuple_of(value, 3):
+        return False
+    parts, constraints, output = value
+    if not isinstance(parts, tuple) or not 1 <= len(parts) <= 4:
+        return False
+    if not all([_is_part(scheme, part) for part in parts]):
+        return False
+    names = [variable for _, variables in parts for variable in variables]
+    if not isinstance(constraints, tuple) or len(constraints) > 8:
+        return False
+    if not all([is_constraint(constraint, names) for constraint in constraints]):
+        return False
+    if not isinstance(output, tuple) or len(output) > 8:
+        return False
+    return all([_is_variable(variable) and variable in names for variable in output])
+
+
+def _is_part(scheme, value):
+    if not is_tuple_of(value, 2):
+        return False
+    table, variables = value
+    if not lies_between(table, 0, len(scheme) - 1) or not is_tuple_of(variables, len(scheme[table][0])):
+        return False
+    return all([_is_variable(variable) for variable in variables])
+
+
+def _is_variable(value):
+    return lies_between(value, 0, GREATEST_VARIABLE)
+
+
+def ways(scheme, query, database):
+    """Return the ascending list of all ways of a query in a database."""
+    found = []
+    _complete(_steps(query), database, (), found)
+    return found
+
+
+def answer(scheme, query, database):
+    """Return the ascending list of the outputs of all ways of a query in a database."""
+    first = _first_places(query)
+    places = [first[variable] for variable in query[2]]
+    return sorted([tuple([rows[p][j] for p, j in places]) for rows in ways(scheme, query, database)])
+
+
+def _first_places(query):
+    """Return a dict from each variable to the first place (part, column) where it stands."""
+    first = {}
+    for p, (_, variables) in enumerate(query[0]):
+        for j, variable in enumerate(variables):
+            first.setdefault(variable, (p, j))
+    return first
+
+
+def _steps(query):
+    """Return for each part its table, the places that its row must agree with, and the constraints to check.
+
+    A constraint is checked at the first part behind which both of its sides are known.
+    """
+    parts, constraints, _ = query
+    first = _first_places(query)
+    steps = []
+    for p, (table, variables) in enumerate(parts):
+        agreeing = [(j, first[variable]) for j, variable in enumerate(variables) if first[variable] != (p, j)]
+        due = [(first.get(x), first.get(y), c) for x, y, c in constraints if _last_part(first, x, y) == p]
+        steps.append((table, agreeing, due))
+    return steps
+
+
+def _last_part(first, x, y):
+    return max([first[side][0] for side in (x, y) if side is not None])
+
+
+def _complete(steps, database, rows, found):
+    """Append to found, ascending, each way that begins with these rows."""
+    if len(rows) == len(steps):
+        found.append(rows)
+        return
+    table, agreeing, due = steps[len(rows)]
+    for row in database[table]:
+        longer = (*rows, row)
+        if _agrees(longer, agreeing) and _meets(longer, due):
+            _complete(steps, database, longer, found)
+
+
+def _agrees(rows, agreeing):
+    row = rows[-1]
+    for j, (p, k) in agreeing:
+        if row[j] != rows[p][k]:
+            return False
+    return True
+
+
+def _meets(rows, due):
+    for x, y, c in due:
+        if _number_at(rows, x) - _number_at(rows, y) > c:
+            return False
+    return True
+
+
+def _number_at(rows, place):
+    if place is None:
+        return 0
+    p, j = place
+    return rows[p][j]
