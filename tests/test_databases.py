@@ -105,7 +105,7 @@ class TestIsChange(unittest.TestCase):
         self.assertIs(is_change(WIDE, ("delete", 3, (9, 4), ())), True)
 
     def test_words_and_tables(self):
-        self.wrong(("update", 0, (1, 7), ()), ("Insert", 0, (1, 7), ()), ("", 0, (1, 7), ()), (0, 0, (1, 7), ()),
+        self.wrong(("update", 0, (1,), ()), ("update", 0, (1, 7), ()), ("", 0, ("a",), ()), (None, 0, (1,), ()), ("Insert", 0, (1, 7), ()), ("", 0, (1, 7), ()), (0, 0, (1, 7), ()),
                    (("insert",), 0, (1, 7), ()), (None, 0, (1, 7), ()), ("insert", 2, (1, 7), ()),
                    ("insert", -1, (1, 2, 3), ()), ("insert", False, (1, 7), ()), ("insert", "0", (1, 7), ()))
 

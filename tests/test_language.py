@@ -15,6 +15,17 @@ INTERFACE = {
         "is_database(scheme, value)", "is_change(scheme, value)", "made_plain(scheme, change, values)",
         "carried_out(scheme, database, change)"],
     "queries": ["is_query(scheme, value)", "ways(scheme, query, database)", "answer(scheme, query, database)"],
+    "systems": ["solved(system)", "is_solution(system, value)", "is_cycle(system, value)", "tightest(system, x, y)"],
+    "cases": [
+        "count_cases(scheme, query, table)", "count_bare(scheme, query)", "cases(scheme, query, table)",
+        "bare_cases(scheme, query)", "reasons(scheme, query, table, case)",
+        "constraint_of(scheme, query, change, case, reason)"],
+    "decisions": [
+        "decide(scheme, query, change)", "is_counterexample(scheme, query, change, value)",
+        "is_refutation(scheme, query, change, value)"],
+    "zones": [
+        "zones(scheme, query, table)", "key_zones(scheme, query, table)", "lies_in(zone, numbers)",
+        "hit(scheme, query, table, row)"],
 }
 
 BUILTINS = (
@@ -99,7 +110,7 @@ class TestLanguage(unittest.TestCase):
                         self.assertIsNone(name.asname)
                         value = getattr(module, name.name)
                         self.assertEqual(getattr(value, "__module__", node.module), node.module)
-                        self.assertGreater(text.count(name.name), 1)
+                        self.assertGreater(text.count(name.name), 1, (path.name, name.name))
         while imported:
             free = [stem for stem in imported if not set(imported[stem]) & set(imported)]
             self.assertNotEqual(free, [])

@@ -134,3 +134,19 @@ def _deletion_hindrance(scheme, database, table, key):
 
 def _refers(scheme, number, row, table, key):
     return any([referred == table and picked(row, columns) == key for columns, referred in scheme[number][2]])
+
+
+def completed(scheme, tables):
+    """Return the database of lists of rows, equal ones once, and of rows put in to which they refer."""
+    found = [{picked(row, table[1]): row for row in rows} for table, rows in zip(scheme, tables)]
+    for number, (_, _, references) in enumerate(scheme):
+        for row in list(found[number].values()):
+            for columns, referred in references:
+                key = picked(row, columns)
+                found[referred].setdefault(key, _least_row(scheme[referred], key))
+    return tuple([tuple(sorted(list(rows.values()))) for rows in found])
+
+
+def _least_row(table, key):
+    numbers = dict(zip(table[1], key))
+    return tuple([numbers.get(j, low) for j, (low, _) in enumerate(table[0])])
