@@ -110,7 +110,7 @@ def constraint_for(known, reason):
 
 def constraints_of_case(scheme, query, change, case):
     """Return a dict from each reason that a case and a change, or None, allow, ascending, to its constraint."""
-    taken, splits = case
+    taken = case[0]
     # The changed table is that of each part that takes the changed row; a bare case has none.
     table = query[0][taken[0]][0] if taken else None
     found = _of_query(scheme, query) + _of_splits(scheme, query, table, case)
