@@ -33,12 +33,52 @@ def is_met(scheme, database, reference, row):
     return any(tuple(other[k] for k in key) == tuple(row[j] for j in columns) for other in database[referred])
 
 
+def within(zone, other):
+    return all(x <= y for row, other_row in zip(zone, other) for x, y in zip(row, other_row))
+
+
+def check_zones(test, found, many):
+    """Zones are ascending, each once, none within another one, of the right size, tight."""
+    test.assertIs(type(found), list)
+    test.assertEqual(found, sorted(set(found)))
+    for zone in found:
+        test.assertEqual([len(row) for row in zone], [many + 1] * (many + 1))
+        test.assertEqual([zone[i][i] for i in range(many + 1)], [0] * (many + 1))
+        test.assertEqual([other for other in found if other != zone and within(zone, other)], [])
+        for i, j, k in itertools.product(range(many + 1), repeat=3):
+            test.assertLessEqual(zone[i][k], zone[i][j] + zone[j][k])
+
+
 def all_values(scheme, change):
     word, table, values, _ = change
     names = sorted({value for value in values if isinstance(value, str)})
     low = min(low for low, _ in scheme[table][0])
     high = max(high for _, high in scheme[table][0])
     return itertools.product(range(low, high + 1), repeat=len(names))
+
+
+def clashing(scheme, databases, one, other):
+    """The values with which the order of two changes matters on one of these databases."""
+    names = sorted({value for value in one[2] + other[2] if isinstance(value, str)})
+    bounds = [bound for change in (one, other) for bounds in scheme[change[1]][0] for bound in bounds]
+    found = set()
+    for values in itertools.product(range(min(bounds), max(bounds) + 1), repeat=len(names)):
+        known = dict(zip(names, values))
+        plain = [made_plain(scheme, change, tuple(
+            known[name] for name in sorted({value for value in change[2] if isinstance(value, str)})))
+            for change in (one, other)]
+        if None not in plain and any(
+                in_order(scheme, database, plain) != in_order(scheme, database, plain[::-1])
+                for database in databases):
+            found.add(values)
+    return found
+
+
+def in_order(scheme, database, changes):
+    """The database behind these plain changes, one after the other."""
+    for change in changes:
+        database = carried_out(scheme, database, change)[0]
+    return database
 
 
 def altering(scheme, query, databases, change):

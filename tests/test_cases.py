@@ -7,8 +7,12 @@ from samples import (
     BIG, OTHERS, SCHEME, WIDE, dice, misshapen, random_change, random_database, random_query, random_scheme,
     replaced_by_others)
 from watchzones.cases import bare_cases, cases, constraint_of, count_bare, count_cases, reasons
+from watchzones.clashes import clash, clash_systems, is_clash, is_peace
 from watchzones.decisions import decide, is_counterexample, is_refutation
 from watchzones.errors import TooManyCases
+from watchzones.facts import find_answer, is_empty, is_spare, needed
+from watchzones.guards import guard
+from watchzones.repairs import effects
 from watchzones.zones import hit, key_zones, zones
 
 # One key column, two key columns, and a table that refers to both, to the second one crosswise.
@@ -127,13 +131,38 @@ class TestTooManyCases(unittest.TestCase):
         self.raises(945, zones, scheme, query, 0)
         self.raises(945, key_zones, scheme, query, 0)
         self.raises(945, hit, scheme, query, 0, (0,))
+        for change in (("insert", 0, (0,), ()), ("delete", 0, ("a",), ()), ("delete", 0, ("a",), (("a", None, -1),))):
+            self.raises(945, guard, scheme, query, change)
         for value in ([], None, [[]] * 945, *OTHERS):
             self.raises(945, is_refutation, scheme, query, ("insert", 0, (0,), ()), value)
 
     def test_more_than_300_bare(self):
         scheme, query = one_column(4)
+        query = (query[0], ((0, 1, 3), (1, 0, -4)), ())
         self.raises(729, bare_cases, scheme, query)
+        self.raises(729, find_answer, scheme, query)
+        for i in (0, 1):
+            self.raises(729, needed, scheme, query, i)
+        for value in ([], None, [[]] * 729, [[("constraint", 0), ("constraint", 1)]] * 729, *OTHERS):
+            self.raises(729, is_empty, scheme, query, value)
+            self.raises(729, is_spare, scheme, query, 0, value)
         self.raises(15625, bare_cases, *two_columns(4))
+        self.raises(15625, find_answer, *two_columns(4))
+
+    def test_the_number_of_cases_is_that_of_the_changed_table(self):
+        first = (((0, 3),), (0,), ())
+        twice = (((0, 3), (0, 3)), (0, 1), (((0,), 0), ((1,), 0)))
+        scheme = (first, twice, twice, first)
+        query = (((0, (0,)), (1, (1, 2)), (1, (3, 4)), (2, (5, 6))), (), ())
+        self.assertEqual([count_cases(scheme, query, table) for table in range(4)], [320, 9, 5, 0])
+        self.raises(320, guard, scheme, query, ("insert", 0, ("a",), ()))
+        self.raises(320, guard, scheme, query, ("delete", 0, (1,), ()))
+        self.assertEqual(guard(scheme, query, ("insert", 1, (1, 2), ())), [((0,),)])
+        self.assertEqual(guard(scheme, query, ("delete", 2, (1, "b"), ())), [((0, 3), (0, 0))])
+        self.assertEqual(guard(scheme, query, ("insert", 3, ("b",), ())), [])
+        # Here the bare cases are few, though there are many others.
+        self.assertEqual([count_bare(scheme, query), find_answer(scheme, query)[0]], [5, "answers"])
+        self.assertIs(is_empty(scheme, query, []), False)
 
     def test_other_functions_raise_nothing(self):
         scheme, query = one_column(4)
@@ -145,6 +174,18 @@ class TestTooManyCases(unittest.TestCase):
         change = ("insert", 0, (0,), ())
         self.assertIs(is_counterexample(scheme, query, change, (((),), (), [], [()])), True)
         self.assertIs(is_counterexample(scheme, query, change, None), False)
+        self.assertEqual(effects(scheme, query, ((),), change), ([()], []))
+
+    def test_two_changes_have_no_cases(self):
+        scheme = ((((0, 3), (0, 3), (0, 3), (0, 3)), (0,), ()), (((0, 3), (0, 3)), (0,), (((0,), 0), ((1,), 0))))
+        for one, other in itertools.permutations((
+                ("insert", 0, ("a", "b", "c", "d"), ()), ("insert", 0, (1, 2, 3, 0), ()), ("delete", 0, (1,), ()),
+                ("insert", 1, ("a", "a"), ()), ("delete", 1, (2,), ())), 2):
+            self.assertLessEqual(len(clash_systems(scheme, one, other)), 6)
+            self.assertIn(clash(scheme, one, other)[0], ("clash", "none"))
+            for value in OTHERS:
+                self.assertIs(is_clash(scheme, one, other, value), False)
+                self.assertIn(is_peace(scheme, one, other, value), (True, False))
 
     def test_bare_and_other_cases_count_apart(self):
         scheme, query = one_column(4)

@@ -26,6 +26,31 @@ INTERFACE = {
     "zones": [
         "zones(scheme, query, table)", "key_zones(scheme, query, table)", "lies_in(zone, numbers)",
         "hit(scheme, query, table, row)"],
+    "guards": ["guard(scheme, query, change)", "passes(some, values)"],
+    "clashes": [
+        "clash_systems(scheme, one, other)", "clash(scheme, one, other)", "is_clash(scheme, one, other, value)",
+        "is_peace(scheme, one, other, value)"],
+    "facts": [
+        "find_answer(scheme, query)", "needed(scheme, query, i)", "is_empty(scheme, query, value)",
+        "is_spare(scheme, query, i, value)"],
+    "repairs": ["effects(scheme, query, database, change)", "repaired(rows, gained, lost)"],
+    "cache": ["Cache(scheme)"],
+    "logs": ["first_fault(scheme, value)", "is_log(scheme, value)", "replayed(scheme, entries)"],
+    "store": ["Store(scheme, database)"],
+    "errors": [
+        "TooManyCases(number)", "InvalidQuery(value)", "InvalidChange(value)", "InvalidAnswer(value)",
+        "UnknownQuery(number)", "UnknownMark(number)", "Disagrees(number)"],
+    "watchererrors": [
+        "TooWide(query)", "InvalidOutput(value)", "InvalidTruth(value)", "NotWatched(number, output)",
+        "FullTable(table)", "Hindered(number, hindrance)"],
+}
+
+METHODS_OF_CLASSES = {
+    ("cache", "Cache"): [
+        "add(query)", "take_in(number, rows)", "look(number)", "held()", "tell(change)", "watchers(table, row)", "mark()",
+        "back(number)", "log()", "__eq__(other)"],
+    ("store", "Store"): [
+        "add(query)", "carry(change)", "look(number)", "looked(number)", "tables()", "mark()", "back(number)"],
 }
 
 BUILTINS = (
@@ -36,7 +61,7 @@ METHODS = (
     "setdefault split startswith strip update values").split()
 AT_ONCE = ("zip", "enumerate", "reversed", "map", "items", "keys", "values")
 BARRED = (
-    ast.Lambda, ast.Try, ast.With, ast.Global, ast.Nonlocal, ast.AsyncFunctionDef, ast.Await, ast.Div, ast.Yield,
+    ast.Lambda, ast.With, ast.Global, ast.Nonlocal, ast.AsyncFunctionDef, ast.Await, ast.Div, ast.Yield,
     ast.YieldFrom, ast.Import, ast.NamedExpr, ast.JoinedStr, ast.Match, ast.AnnAssign, ast.Set, ast.SetComp, ast.Delete)
 
 
@@ -91,7 +116,8 @@ class TestLanguage(unittest.TestCase):
             bound = [node.name for node in tree.body if isinstance(node, (ast.FunctionDef, ast.ClassDef))]
             bound += [name.name for node in tree.body if isinstance(node, ast.ImportFrom) for name in node.names]
             self.assertEqual(len(bound), len(set(bound)))
-            inner = [name for node in tree.body if isinstance(node, ast.FunctionDef)
+            methods = [part for node in tree.body if isinstance(node, ast.ClassDef) for part in node.body]
+            inner = [name for node in [*tree.body, *methods] if isinstance(node, ast.FunctionDef)
                      for part in [node.args, *node.body] for name in names_bound(part)]
             self.assertEqual(set(inner) & set(bound), set())
 
@@ -137,12 +163,36 @@ class TestLanguage(unittest.TestCase):
         own = {name for path, text, tree in self.each() for name in names_bound(tree)}
         for path, text, tree in self.each():
             for name in names_bound(tree):
-                self.assertFalse(hasattr(builtins, name) and name != "__init__", (path.name, name))
+                self.assertTrue(name in ("__init__", "__eq__") or not hasattr(builtins, name), (path.name, name))
             for node in ast.walk(tree):
                 if isinstance(node, ast.Name) and hasattr(builtins, node.id):
                     self.assertIn(node.id, BUILTINS, (path.name, node.lineno))
                 if isinstance(node, ast.Call) and isinstance(node.func, ast.Attribute):
                     self.assertIn(node.func.attr, {*METHODS, *own, "__init__"}, (path.name, node.lineno))
+
+    def test_only_own_errors_are_caught(self):
+        for path, text, tree in self.each():
+            for node in ast.walk(tree):
+                if isinstance(node, ast.Try):
+                    self.assertEqual(node.finalbody, [])
+                    for handler in node.handlers:
+                        self.assertIsInstance(handler.type, ast.Name, (path.name, node.lineno))
+                        self.assertFalse(hasattr(builtins, handler.type.id))
+                if isinstance(node, ast.Raise):
+                    self.assertEqual(called(node.exc)[:1].isupper(), True, (path.name, node.lineno))
+
+    def test_no_name_is_a_method_and_an_attribute(self):
+        methods, attributes = set(), set()
+        for path, text, tree in self.each():
+            for node in ast.walk(tree):
+                if isinstance(node, ast.ClassDef):
+                    names = [part.name for part in node.body if isinstance(part, ast.FunctionDef)]
+                    self.assertEqual(len(names), len(set(names)))
+                    methods.update(names)
+                if isinstance(node, ast.Attribute) and isinstance(node.ctx, ast.Store):
+                    attributes.add(node.attr)
+        self.assertEqual(methods & attributes, set())
+        self.assertEqual(attributes & set(METHODS), set())
 
     def test_sets_stand_only_where_their_order_means_nothing(self):
         for path, text, tree in self.each():
@@ -161,3 +211,11 @@ class TestInterface(unittest.TestCase):
                 function = getattr(module, name)
                 self.assertEqual(function.__module__, module.__name__)
                 self.assertEqual(list(inspect.signature(function).parameters), rest[:-1].split(", "))
+
+    def test_methods_stand_in_the_class_itself(self):
+        for (stem, kind), told in METHODS_OF_CLASSES.items():
+            own = vars(getattr(importlib.import_module(f"watchzones.{stem}"), kind))
+            for text in told:
+                name, _, rest = text.partition("(")
+                self.assertEqual(list(inspect.signature(own[name]).parameters), [
+                    "self", *[word for word in rest[:-1].split(", ") if word]])

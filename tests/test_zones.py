@@ -1,7 +1,7 @@
-import itertools
 import unittest
 
 import oracle
+from oracle import check_zones, within
 from samples import BIG, SCHEME, dice, random_query, random_scheme
 from watchzones.cases import cases, constraint_of, count_cases, reasons
 from watchzones.decisions import decide
@@ -13,22 +13,7 @@ TINY = ((((0, 1), (0, 1)), (0, 1), ()), (((0, 2), (0, 1)), (0,), (((1, 1), 0),))
 LONELY = ((((0, 4),), (0,), ()),)
 
 
-def within(zone, other):
-    return all(x <= y for row, other_row in zip(zone, other) for x, y in zip(row, other_row))
-
-
 class TestZones(unittest.TestCase):
-    def shape(self, found, many):
-        """Ascending, each once, none within another one, of the right size, tight."""
-        self.assertIs(type(found), list)
-        self.assertEqual(found, sorted(set(found)))
-        for zone in found:
-            self.assertEqual([len(row) for row in zone], [many + 1] * (many + 1))
-            self.assertEqual([zone[i][i] for i in range(many + 1)], [0] * (many + 1))
-            self.assertEqual([other for other in found if other != zone and within(zone, other)], [])
-            for i, j, k in itertools.product(range(many + 1), repeat=3):
-                self.assertLessEqual(zone[i][k], zone[i][j] + zone[j][k])
-
     def test_examples(self):
         self.assertEqual([zones(SCHEME, BIG, 0), zones(SCHEME, BIG, 1)], [[], [ZONE]])
         self.assertEqual(key_zones(SCHEME, BIG, 1), [((0, 999), (0, 0))])
@@ -81,7 +66,7 @@ class TestZones(unittest.TestCase):
                         if solved(system)[0] == "solution":
                             every.add(tuple(tuple(0 if x == y else tightest(system, x, y)[0] for y in [*nodes, None])
                                             for x in [*nodes, None]))
-                    self.shape(found, len(nodes))
+                    check_zones(self, found, len(nodes))
                     self.assertEqual(found, sorted(
                         zone for zone in every if not any(zone != other and within(zone, other) for other in every)))
 
@@ -94,8 +79,8 @@ class TestZones(unittest.TestCase):
                 if count_cases(scheme, query, table) > 300:
                     continue
                 found, keys = zones(scheme, query, table), key_zones(scheme, query, table)
-                self.shape(found, len(columns))
-                self.shape(keys, len(key))
+                check_zones(self, found, len(columns))
+                check_zones(self, keys, len(key))
                 for row in oracle.all_rows(columns):
                     change = ("insert", table, row, ())
                     can = oracle.altering(scheme, query, databases, change) != set()

@@ -13,18 +13,25 @@ def decide(scheme, query, change):
     """Return ('can', a counterexample) or, if there is none, ('never', a refutation)."""
     bars = []
     for case in cases(scheme, query, change[1]):
-        known = constraints_of_case(scheme, query, change, case)
-        word, found = solved(list(known.values()))
+        word, found = solved_or_barred(constraints_of_case(scheme, query, change, case))
         if word == "solution":
             return ("can", _counterexample(scheme, query, change, case, found))
-        names = list(known)
-        bars.append([names[i] for i in found])
+        bars.append(found)
     return ("never", bars)
+
+
+def solved_or_barred(known):
+    """Return ('solution', one) of the constraints that a dict has for reasons or, if there is none, ('bar', a bar)."""
+    word, found = solved(list(known.values()))
+    if word == "solution":
+        return (word, found)
+    names = list(known)
+    return ("bar", [names[i] for i in found])
 
 
 def _counterexample(scheme, query, change, case, solution):
     values = tuple([solution[parameter_node(name)] for name in parameters_of(change[2])])
-    database = _database_with_way(scheme, query, solution)
+    database = database_with_way(scheme, query, solution)
     if change[0] == "insert":
         row = _row_of_part(query, case[0][0], solution)
         database = with_rows(database, change[1], tuple([other for other in database[change[1]] if other != row]))
@@ -36,8 +43,8 @@ def _row_of_part(query, p, solution):
     return tuple([solution[variable] for variable in query[0][p][1]])
 
 
-def _database_with_way(scheme, query, solution):
-    """Return a database with the way that a solution of a case tells; the changed row is among its rows."""
+def database_with_way(scheme, query, solution):
+    """Return a database with the way that a solution of a case tells; a changed row is among its rows."""
     tables = [[] for _ in scheme]
     for p, (table, _) in enumerate(query[0]):
         tables[table].append(_row_of_part(query, p, solution))

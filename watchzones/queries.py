@@ -39,16 +39,26 @@ def _is_variable(value):
 
 def ways(scheme, query, database):
     """Return the ascending list of all ways of a query in a database."""
+    return ways_among(query, [database[table] for table, _ in query[0]])
+
+
+def ways_among(query, candidates):
+    """Return the ascending list of the ways whose parts have rows among the ascending candidates of each part."""
     found = []
-    _complete(_steps(query), database, (), found)
+    _complete(_steps(query), candidates, (), found)
     return found
 
 
 def answer(scheme, query, database):
     """Return the ascending list of the outputs of all ways of a query in a database."""
+    return outputs_of(query, ways(scheme, query, database))
+
+
+def outputs_of(query, found):
+    """Return the ascending list of the outputs of these ways of a query."""
     first = _first_places(query)
     places = [first[variable] for variable in query[2]]
-    return sorted([tuple([rows[p][j] for p, j in places]) for rows in ways(scheme, query, database)])
+    return sorted([tuple([rows[p][j] for p, j in places]) for rows in found])
 
 
 def _first_places(query):
@@ -61,17 +71,17 @@ def _first_places(query):
 
 
 def _steps(query):
-    """Return for each part its table, the places that its row must agree with, and the constraints to check.
+    """Return for each part the places that its row must agree with, and the constraints to check.
 
     A constraint is checked at the first part behind which both of its sides are known.
     """
     parts, constraints, _ = query
     first = _first_places(query)
     steps = []
-    for p, (table, variables) in enumerate(parts):
+    for p, (_, variables) in enumerate(parts):
         agreeing = [(j, first[variable]) for j, variable in enumerate(variables) if first[variable] != (p, j)]
         due = [(first.get(x), first.get(y), c) for x, y, c in constraints if _last_part(first, x, y) == p]
-        steps.append((table, agreeing, due))
+        steps.append((agreeing, due))
     return steps
 
 
@@ -79,16 +89,16 @@ def _last_part(first, x, y):
     return max([first[side][0] for side in (x, y) if side is not None])
 
 
-def _complete(steps, database, rows, found):
+def _complete(steps, candidates, rows, found):
     """Append to found, ascending, each way that begins with these rows."""
     if len(rows) == len(steps):
         found.append(rows)
         return
-    table, agreeing, due = steps[len(rows)]
-    for row in database[table]:
+    agreeing, due = steps[len(rows)]
+    for row in candidates[len(rows)]:
         longer = (*rows, row)
         if _agrees(longer, agreeing) and _meets(longer, due):
-            _complete(steps, database, longer, found)
+            _complete(steps, candidates, longer, found)
 
 
 def _agrees(rows, agreeing):

@@ -1,0 +1,51 @@
+"""Checks of arguments, which may be any values: each raises an error unless its argument is right."""
+
+from watchzones.basics import are_integers, is_tuple_of, lies_between
+from watchzones.cases import MOST_CASES, count_cases
+from watchzones.databases import is_change, parameters_of
+from watchzones.errors import InvalidAnswer, InvalidChange, InvalidQuery, TooManyCases, UnknownMark, UnknownQuery
+from watchzones.queries import is_query
+
+MOST_OUTPUTS = 1000
+
+
+def check_query(scheme, value):
+    """Raise an error unless a value is a query that has no more than 300 cases for each table."""
+    if not is_query(scheme, value):
+        raise InvalidQuery(value)
+    number = max([count_cases(scheme, value, table) for table in range(len(scheme))])
+    if number > MOST_CASES:
+        raise TooManyCases(number)
+
+
+def check_query_number(value, many):
+    """Raise an error unless a value is the number of one of so many queries."""
+    if not lies_between(value, 0, many - 1):
+        raise UnknownQuery(value)
+
+
+def check_mark_number(value, many):
+    """Raise an error unless a value is the number of one of so many marks."""
+    if not lies_between(value, 0, many - 1):
+        raise UnknownMark(value)
+
+
+def is_plain_change(scheme, value):
+    """Tell for any value whether it is a change without parameters and conditions."""
+    return is_change(scheme, value) and parameters_of(value[2]) == [] and value[3] == ()
+
+
+def check_plain_change(scheme, value):
+    """Raise an error unless a value is a plain change."""
+    if not is_plain_change(scheme, value):
+        raise InvalidChange(value)
+
+
+def check_answer(query, value):
+    """Raise an error unless a value is an ascending list of at most 1000 tuples of integers for a query's output."""
+    if not isinstance(value, list) or len(value) > MOST_OUTPUTS:
+        raise InvalidAnswer(value)
+    if not all([is_tuple_of(output, len(query[2])) and are_integers(output) for output in value]):
+        raise InvalidAnswer(value)
+    if value != sorted(value):
+        raise InvalidAnswer(value)
