@@ -144,3 +144,39 @@ def within(row, columns):
 
 def dice(seed):
     return random.Random(seed)
+
+
+# A table with a key of two columns, one that refers to it with two columns in another order, one that refers to it twice.
+CROSSED = (
+    (((0, 1), (0, 1)), (0, 1), ()),
+    (((0, 1), (0, 1), (0, 1)), (0,), (((2, 1), 0),)),
+)
+TWICE = (
+    (((0, 1), (0, 1)), (0,), ()),
+    (((0, 1), (0, 1), (0, 1)), (0,), (((1,), 0), ((2,), 0))),
+)
+SQUARES = ((((0, 1), (0, 1)), (0, 1), ()),)
+LINE = ((((0, 3),), (0,), ()),)
+KEYED = ((((0, 2), (0, 1)), (0,), ()),)
+
+# Those of the document.
+PAIRS = ((((0, 2), (0, 2)), (0, 1), ()),)
+UP = (((0, (0, 1)), (0, (0, 2))), ((1, 2, 0),), (0,))
+SECOND = (((0, (0, 1)), (0, (0, 2))), ((None, 2, -2),), (0,))
+PUT = ("insert", 0, (1, 1), ())
+SERVED = (((1, (0, 1, 2)), (0, (3, 4))), (), ())
+
+
+def lists_in(value):
+    """All lists and dicts in a value, itself too."""
+    items = value if isinstance(value, (tuple, list)) else list(value.values()) if isinstance(value, dict) else []
+    return [some for item in items for some in lists_in(item)] + ([value] if isinstance(value, (list, dict)) else [])
+
+
+def spoilt(value):
+    """Change each list and dict in a value, at any depth."""
+    for some in lists_in(value):
+        if isinstance(some, list):
+            some.append(["spoilt"])
+        else:
+            some["spoilt"] = None

@@ -18,6 +18,11 @@ def is_tuple_of(value, many):
     return isinstance(value, tuple) and len(value) == many
 
 
+def is_worded(value):
+    """Tell for any value whether it is a tuple with a string in front."""
+    return isinstance(value, tuple) and value != () and isinstance(value[0], str)
+
+
 def are_integers(values):
     """Tell for a tuple or list of any values whether all of them are integers."""
     return all([is_integer(value) for value in values])

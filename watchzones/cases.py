@@ -1,6 +1,6 @@
 """Cases of a query and a changed table, and the reasons that hold in them."""
 
-from watchzones.basics import are_integers
+from watchzones.basics import are_integers, is_worded
 from watchzones.databases import PARAMETERS, value_columns
 from watchzones.errors import TooManyCases
 
@@ -46,7 +46,7 @@ def _choices_of_parts(query, table):
     return sorted(found)[1:]
 
 
-def _split_places(scheme, query, table, taken):
+def split_places(scheme, query, table, taken):
     """Return, in the order of the splits, the reasons that splits other than 0 allow."""
     parts = query[0]
     outside = [p for p in range(len(parts)) if p not in taken]
@@ -77,14 +77,14 @@ def _possible_splits(scheme, query, place):
 
 def _count_splits(scheme, query, table, taken):
     number = 1
-    for place in _split_places(scheme, query, table, taken):
+    for place in split_places(scheme, query, table, taken):
         number *= len(_possible_splits(scheme, query, place))
     return number
 
 
 def _all_splits(scheme, query, table, taken):
     found = [()]
-    for place in _split_places(scheme, query, table, taken):
+    for place in split_places(scheme, query, table, taken):
         possible = _possible_splits(scheme, query, place)
         found = [(*splits, split) for splits in found for split in possible]
     return found
@@ -103,7 +103,7 @@ def constraint_of(scheme, query, change, case, reason):
 def constraint_for(known, reason):
     """Return what a dict has for a reason, which may be any value, or None."""
     # A reason with a truth in it would be found in the dict, too.
-    if not isinstance(reason, tuple) or reason == () or not isinstance(reason[0], str) or not are_integers(reason[1:]):
+    if not is_worded(reason) or not are_integers(reason[1:]):
         return None
     return known.get(reason)
 
@@ -134,7 +134,7 @@ def _of_query(scheme, query):
 def _of_splits(scheme, query, table, case):
     taken, splits = case
     found = []
-    for place, split in zip(_split_places(scheme, query, table, taken), splits):
+    for place, split in zip(split_places(scheme, query, table, taken), splits):
         if split == 0:
             found.extend(_of_same(query, place[1], place[2]))
         else:

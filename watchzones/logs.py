@@ -1,6 +1,6 @@
 """Logs of caches, which are checked without any search."""
 
-from watchzones.basics import is_integer, is_tuple_of
+from watchzones.basics import is_integer, is_tuple_of, is_worded
 from watchzones.checks import is_plain_change
 from watchzones.decisions import is_counterexample, is_refutation
 from watchzones.errors import WatchzonesError
@@ -32,9 +32,7 @@ def replayed(scheme, entries):
 
 
 def _has_form(value):
-    if not isinstance(value, tuple) or value == () or not isinstance(value[0], str):
-        return False
-    return LENGTHS.get(value[0]) == len(value)
+    return is_worded(value) and LENGTHS.get(value[0]) == len(value)
 
 
 def _is_followed(holding, entry):

@@ -3,6 +3,7 @@
 from watchzones.basics import is_constraint, is_tuple_of, lies_between
 
 GREATEST_VARIABLE = 15
+MOST_PARTS = 4
 
 
 def is_query(scheme, value):
@@ -10,7 +11,7 @@ def is_query(scheme, value):
     if not is_tuple_of(value, 3):
         return False
     parts, constraints, output = value
-    if not isinstance(parts, tuple) or not 1 <= len(parts) <= 4:
+    if not isinstance(parts, tuple) or not 1 <= len(parts) <= MOST_PARTS:
         return False
     if not all([_is_part(scheme, part) for part in parts]):
         return False
