@@ -37,6 +37,20 @@ INTERFACE = {
     "cache": ["Cache(scheme)"],
     "logs": ["first_fault(scheme, value)", "is_log(scheme, value)", "replayed(scheme, entries)"],
     "store": ["Store(scheme, database)"],
+    "widening": ["is_wide(scheme, query)", "widened(scheme, query)"],
+    "waynumbers": [
+        "set_answer(scheme, query, database)", "numbers_of(scheme, query, database)", "moved(known, gained, lost)"],
+    "choices": [
+        "standing(scheme, query, table, case)", "choices_of(scheme, query, table, case)",
+        "claims(scheme, query, choice)", "broken(claim)"],
+    "trees": [
+        "find_tree(scheme, query, change, wanted, case)", "is_tree(scheme, query, change, wanted, case, value)",
+        "is_open(scheme, query, change, wanted, case, value)"],
+    "bringing": ["decide_output(scheme, query, change, wanted)", "is_decision(scheme, query, change, wanted, value)"],
+    "watchers": ["Watcher(scheme)"],
+    "watcherlogs": [
+        "first_watch_fault(scheme, value)", "is_watch_log(scheme, value)", "watches_behind(scheme, entries)"],
+    "board": ["Board(scheme, database)"],
     "errors": [
         "TooManyCases(number)", "InvalidQuery(value)", "InvalidChange(value)", "InvalidAnswer(value)",
         "UnknownQuery(number)", "UnknownMark(number)", "Disagrees(number)"],
@@ -51,6 +65,13 @@ METHODS_OF_CLASSES = {
         "back(number)", "log()", "__eq__(other)"],
     ("store", "Store"): [
         "add(query)", "carry(change)", "look(number)", "looked(number)", "tables()", "mark()", "back(number)"],
+    ("watchers", "Watcher"): [
+        "add(query)", "take_in(number, output, is_in)", "drop(number, output)", "look(number, output)", "held()",
+        "tell(change)", "mark()", "back(number)", "log()", "__eq__(other)"],
+    ("board", "Board"): [
+        "add(query)", "subscribe(number, output)", "leave(number, output)", "carry(change)", "carry_all(changes)",
+        "tables()", "subscribed()", "counts(number)", "waste()", "watch_log()", "mark()", "back(number)", "__len__()",
+        "__contains__(x)"],
 }
 
 BUILTINS = (
@@ -193,6 +214,18 @@ class TestLanguage(unittest.TestCase):
                     attributes.add(node.attr)
         self.assertEqual(methods & attributes, set())
         self.assertEqual(attributes & set(METHODS), set())
+
+    def test_operators_change_nothing(self):
+        operators = ("__eq__", "__len__", "__contains__")
+        for path, text, tree in self.each():
+            for node in ast.walk(tree):
+                if isinstance(node, ast.FunctionDef) and node.name.startswith("__") and node.name != "__init__":
+                    self.assertIn(node.name, operators)
+                    for part in ast.walk(node):
+                        self.assertNotIsInstance(part, (ast.Assign, ast.AugAssign, ast.For, ast.While))
+                        self.assertNotIsInstance(getattr(part, "func", None), ast.Attribute)
+                        if node.name == "__len__" and isinstance(part, ast.Return):
+                            self.assertEqual(called(part.value), "len")
 
     def test_sets_stand_only_where_their_order_means_nothing(self):
         for path, text, tree in self.each():

@@ -5,17 +5,33 @@ from watchzones.cases import MOST_CASES, count_cases
 from watchzones.databases import is_change, parameters_of
 from watchzones.errors import InvalidAnswer, InvalidChange, InvalidQuery, TooManyCases, UnknownMark, UnknownQuery
 from watchzones.queries import is_query
+from watchzones.watchererrors import FullTable, InvalidOutput, InvalidTruth
+from watchzones.widening import widened
 
 MOST_OUTPUTS = 1000
+GREATEST_WATCHED = 1000000000000000000000000000000
+MOST_ROWS_TO_INSERT = 29
+MOST_CHANGES = 8
 
 
 def check_query(scheme, value):
     """Raise an error unless a value is a query that has no more than 300 cases for each table."""
     if not is_query(scheme, value):
         raise InvalidQuery(value)
-    number = max([count_cases(scheme, value, table) for table in range(len(scheme))])
+    _check_cases(scheme, value)
+
+
+def _check_cases(scheme, query):
+    number = max([count_cases(scheme, query, table) for table in range(len(scheme))])
     if number > MOST_CASES:
         raise TooManyCases(number)
+
+
+def check_watched_query(scheme, value):
+    """Raise an error unless a value is a query whose wide query has no more than 300 cases for each table."""
+    if not is_query(scheme, value):
+        raise InvalidQuery(value)
+    _check_cases(scheme, widened(scheme, value))
 
 
 def check_query_number(value, many):
@@ -49,3 +65,32 @@ def check_answer(query, value):
         raise InvalidAnswer(value)
     if value != sorted(value):
         raise InvalidAnswer(value)
+
+
+def check_output(query, value):
+    """Raise an error unless a value is a tuple with an integer from -10 ** 30 to 10 ** 30 for each output variable."""
+    if not is_tuple_of(value, len(query[2])):
+        raise InvalidOutput(value)
+    if not all([lies_between(number, -GREATEST_WATCHED, GREATEST_WATCHED) for number in value]):
+        raise InvalidOutput(value)
+
+
+def check_truth(value):
+    """Raise an error unless a value is True or False."""
+    if not isinstance(value, bool):
+        raise InvalidTruth(value)
+
+
+def check_changes(scheme, value):
+    """Raise an error unless a value is a list of at most eight plain changes."""
+    if not isinstance(value, list) or len(value) > MOST_CHANGES:
+        raise InvalidChange(value)
+    if not all([is_plain_change(scheme, change) for change in value]):
+        raise InvalidChange(value)
+
+
+def check_room(database, change):
+    """Raise an error if a plain change inserts into a table with 29 rows."""
+    word, table, _, _ = change
+    if word == "insert" and len(database[table]) >= MOST_ROWS_TO_INSERT:
+        raise FullTable(table)

@@ -30,13 +30,19 @@ def solved_or_barred(known):
 
 
 def _counterexample(scheme, query, change, case, solution):
+    database, values = shown_by(scheme, query, change, case, solution)
+    before, after = _answers(scheme, query, database, made_plain(scheme, change, values))
+    return (database, values, before, after)
+
+
+def shown_by(scheme, query, change, case, solution):
+    """Return the database ahead of a change and the change's values that a solution of a case tells."""
     values = tuple([solution[parameter_node(name)] for name in parameters_of(change[2])])
     database = database_with_way(scheme, query, solution)
     if change[0] == "insert":
         row = _row_of_part(query, case[0][0], solution)
         database = with_rows(database, change[1], tuple([other for other in database[change[1]] if other != row]))
-    before, after = _answers(scheme, query, database, made_plain(scheme, change, values))
-    return (database, values, before, after)
+    return (database, values)
 
 
 def _row_of_part(query, p, solution):
